@@ -1,0 +1,112 @@
+package vm
+
+import (
+	"cmp"
+	"slices"
+
+	"sluice/api"
+)
+
+const noLoop = -1
+
+// settle fills in where each step's loop and target are, and tells whether
+// the program keeps all rules that need no way through it.
+func (p program) settle() bool {
+	return p.operandsRight() && endsOnce(p.steps) && nestLoops(p.steps) && aimJumps(p.steps)
+}
+
+func (p program) operandsRight() bool {
+	for _, s := range p.steps {
+		if !p.operandRight(s) {
+			return false
+		}
+	}
+	return true
+}
+
+func (p program) operandRight(s step) bool {
+	switch s.op {
+	case opGet:
+		return p.alike(s.arg, 1)
+	case opSet:
+		return p.alike(s.arg, 1) && p.settable(s.arg)
+	case opGetX:
+		return p.alike(s.arg, s.count)
+	case opSetX:
+		return p.alike(s.arg, s.count) && p.settable(s.arg)
+	case opTimer:
+		return p.alike(s.arg, 1) && p.keepsTime(s.arg)
+	case opFor:
+		return s.arg >= 1
+	}
+	return true
+}
+
+// alike tells whether there are count cells from first on (one at least), all
+// of one role and kind.
+func (p program) alike(first, count int) bool {
+	if count < 1 || first+count > len(p.cells) {
+		return false
+	}
+	for _, c := range p.cells[first : first+count] {
+		if c.role != p.cells[first].role || c.kind != p.cells[first].kind {
+			return false
+		}
+	}
+	return true
+}
+
+func (p program) settable(c int) bool {
+	return p.cells[c].role != roleInput
+}
+
+func (p program) keepsTime(c int) bool {
+	return p.cells[c].role == roleVariable && p.cells[c].kind == kindDint
+}
+
+// endsOnce tells whether END is the last step, and no other one.
+func endsOnce(steps []step) bool {
+	first := slices.IndexFunc(steps, func(s step) bool { return s.op == opEnd })
+	return first >= 0 && first == len(steps)-1
+}
+
+// nestLoops fills in each step's loop. No list of the open FORs is needed:
+// each FOR's own loop is the one that is open again behind its NEXT.
+func nestLoops(steps []step) bool {
+	loop, open := noLoop, 0
+	for i := range steps {
+		steps[i].loop = loop
+		switch steps[i].op {
+		case opFor:
+			loop = i
+			open++
+			if open > api.MaxNest {
+				return false
+			}
+		case opNext:
+			if loop == noLoop {
+				return false
+			}
+			loop = steps[loop].loop
+			open--
+		}
+	}
+	return loop == noLoop
+}
+
+// aimJumps fills in where each JUMP and UNLESS goes on.
+func aimJumps(steps []step) bool {
+	for i, s := range steps {
+		if s.op != opJump && s.op != opUnless {
+			continue
+		}
+		to, found := slices.BinarySearchFunc(steps, s.arg, func(other step, at int) int {
+			return cmp.Compare(other.at, at)
+		})
+		if !found || to <= i || steps[to].loop != s.loop {
+			return false
+		}
+		steps[i].to = to
+	}
+	return true
+}

@@ -8,23 +8,6 @@ import (
 
 const mark = "SLUICE"
 
-// The roles and kinds that a rule asks for by name.
-const (
-	roleInput    = 0
-	roleVariable = 2
-	kindDint     = 2
-
-	kinds     = 3
-	cellSorts = 9
-)
-
-// cell is one of the machine's cells.
-type cell struct {
-	role  byte
-	kind  byte
-	value int32
-}
-
 // step is one instruction of the code.
 type step struct {
 	op    byte

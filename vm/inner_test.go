@@ -7,7 +7,12 @@ import (
 )
 
 func TestTable(t *testing.T) {
-	want := []row{
+	type line struct {
+		name         string
+		operand      operand
+		pops, pushes int
+	}
+	want := []line{
 		{"END", noOperand, 0, 0}, {"NUM", aNumber, 0, 1}, {"GET", aCell, 0, 1}, {"SET", aCell, 1, 0},
 		{"GETX", someCells, 1, 1}, {"SETX", someCells, 2, 0},
 		{"ADD", noOperand, 2, 1}, {"SUB", noOperand, 2, 1}, {"MUL", noOperand, 2, 1},
@@ -21,8 +26,11 @@ func TestTable(t *testing.T) {
 		t.Fatalf("the table has %d rows, want %d", len(rows), len(want))
 	}
 	for i, r := range rows {
-		if r != want[i] {
-			t.Errorf("row %d is %v, want %v", i, r, want[i])
+		if got := (line{r.name, r.operand, r.pops, r.pushes}); got != want[i] {
+			t.Errorf("row %d is %v, want %v", i, got, want[i])
+		}
+		if r.does == nil {
+			t.Errorf("nothing does %s", r.name)
 		}
 	}
 }

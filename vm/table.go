@@ -45,33 +45,34 @@ type row struct {
 	operand operand
 	pops    int
 	pushes  int
+	does    action
 }
 
-// table is a function, not a variable: what an instruction does is to stand in
-// its row as a function value, and no package-level table may hold those.
+// table is a function, not a variable: no package-level table may hold
+// function values.
 func table() [opCount]row {
 	return [opCount]row{
-		opEnd:    {"END", noOperand, 0, 0},
-		opNum:    {"NUM", aNumber, 0, 1},
-		opGet:    {"GET", aCell, 0, 1},
-		opSet:    {"SET", aCell, 1, 0},
-		opGetX:   {"GETX", someCells, 1, 1},
-		opSetX:   {"SETX", someCells, 2, 0},
-		opAdd:    {"ADD", noOperand, 2, 1},
-		opSub:    {"SUB", noOperand, 2, 1},
-		opMul:    {"MUL", noOperand, 2, 1},
-		opDiv:    {"DIV", noOperand, 2, 1},
-		opMod:    {"MOD", noOperand, 2, 1},
-		opEq:     {"EQ", noOperand, 2, 1},
-		opLt:     {"LT", noOperand, 2, 1},
-		opNot:    {"NOT", noOperand, 1, 1},
-		opAnd:    {"AND", noOperand, 2, 1},
-		opOr:     {"OR", noOperand, 2, 1},
-		opShort:  {"SHORT", noOperand, 1, 1},
-		opJump:   {"JUMP", aPlace, 0, 0},
-		opUnless: {"UNLESS", aPlace, 1, 0},
-		opFor:    {"FOR", aCount, 0, 0},
-		opNext:   {"NEXT", noOperand, 0, 0},
-		opTimer:  {"TIMER", aCell, 2, 1},
+		opEnd:    {"END", noOperand, 0, 0, doEnd},
+		opNum:    {"NUM", aNumber, 0, 1, doNum},
+		opGet:    {"GET", aCell, 0, 1, doGet},
+		opSet:    {"SET", aCell, 1, 0, doSet},
+		opGetX:   {"GETX", someCells, 1, 1, doGetX},
+		opSetX:   {"SETX", someCells, 2, 0, doSetX},
+		opAdd:    {"ADD", noOperand, 2, 1, reckoned(func(a, b int32) int32 { return a + b })},
+		opSub:    {"SUB", noOperand, 2, 1, reckoned(func(a, b int32) int32 { return a - b })},
+		opMul:    {"MUL", noOperand, 2, 1, reckoned(func(a, b int32) int32 { return a * b })},
+		opDiv:    {"DIV", noOperand, 2, 1, divided(func(a, b int32) int32 { return a / b })},
+		opMod:    {"MOD", noOperand, 2, 1, divided(func(a, b int32) int32 { return a % b })},
+		opEq:     {"EQ", noOperand, 2, 1, reckoned(func(a, b int32) int32 { return truth(a == b) })},
+		opLt:     {"LT", noOperand, 2, 1, reckoned(func(a, b int32) int32 { return truth(a < b) })},
+		opNot:    {"NOT", noOperand, 1, 1, reckoned(func(a, _ int32) int32 { return truth(a == 0) })},
+		opAnd:    {"AND", noOperand, 2, 1, reckoned(func(a, b int32) int32 { return truth(a != 0 && b != 0) })},
+		opOr:     {"OR", noOperand, 2, 1, reckoned(func(a, b int32) int32 { return truth(a != 0 || b != 0) })},
+		opShort:  {"SHORT", noOperand, 1, 1, reckoned(func(a, _ int32) int32 { return laid(int(a), kindInt) })},
+		opJump:   {"JUMP", aPlace, 0, 0, doJump},
+		opUnless: {"UNLESS", aPlace, 1, 0, doUnless},
+		opFor:    {"FOR", aCount, 0, 0, doFor},
+		opNext:   {"NEXT", noOperand, 0, 0, doNext},
+		opTimer:  {"TIMER", aCell, 2, 1, doTimer},
 	}
 }

@@ -1,18 +1,6 @@
 package vm
 
-// The roles and kinds that a rule asks for by name.
-const (
-	roleInput    = 0
-	roleOutput   = 1
-	roleVariable = 2
-
-	kindBool = 0
-	kindInt  = 1
-	kindDint = 2
-
-	kinds     = 3
-	cellSorts = 9
-)
+import "sluice/layout"
 
 // cell is one of the machine's cells.
 type cell struct {
@@ -34,9 +22,9 @@ func (c cell) holds(n int) bool {
 // laid answers what a number is once it is laid into a cell of a kind.
 func laid(n int, kind byte) int32 {
 	switch kind {
-	case kindBool:
+	case layout.Bool:
 		return truth(n != 0)
-	case kindInt:
+	case layout.Int:
 		return int32(int16(n))
 	}
 	return int32(n)

@@ -4,9 +4,8 @@ import (
 	"strings"
 
 	"sluice/api"
+	"sluice/layout"
 )
-
-const mark = "SLUICE"
 
 // step is one instruction of the code.
 type step struct {
@@ -25,7 +24,7 @@ type program struct {
 }
 
 func readImage(image string) (program, bool) {
-	rest, found := strings.CutPrefix(image, mark)
+	rest, found := strings.CutPrefix(image, layout.Mark)
 	if !found || rest == "" {
 		return program{}, false
 	}
@@ -51,10 +50,10 @@ func readCells(sorts string) ([]cell, bool) {
 	cells := make([]cell, len(sorts))
 	for i := range cells {
 		sort := sorts[i]
-		if sort >= cellSorts {
+		if sort >= layout.Roles*layout.Kinds {
 			return nil, false
 		}
-		cells[i] = cell{role: sort / kinds, kind: sort % kinds}
+		cells[i] = cell{role: sort / layout.Kinds, kind: sort % layout.Kinds}
 	}
 	return cells, true
 }
@@ -64,7 +63,7 @@ func readCode(code string) ([]step, bool) {
 	var steps []step
 	for at := 0; at < len(code); {
 		op := code[at]
-		if op >= opCount {
+		if op >= layout.Instructions {
 			return nil, false
 		}
 		begin := at + 1

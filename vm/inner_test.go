@@ -4,6 +4,7 @@ import (
 	"testing"
 
 	"sluice/api"
+	"sluice/layout"
 )
 
 func TestTable(t *testing.T) {
@@ -38,8 +39,8 @@ func TestTable(t *testing.T) {
 func TestOperandsAreRead(t *testing.T) {
 	code := string([]byte{1, 0xff, 0xff, 0xff, 0xfe, 1, 0x12, 0x34, 0x56, 0x78, 2, 200, 4, 7, 9, 17, 1, 2, 19, 0xff, 0xff, 0})
 	want := []step{
-		{op: opNum, at: 0, arg: -2}, {op: opNum, at: 5, arg: 0x12345678}, {op: opGet, at: 10, arg: 200},
-		{op: opGetX, at: 12, arg: 7, count: 9}, {op: opJump, at: 15, arg: 258}, {op: opFor, at: 18, arg: 65535}, {op: opEnd, at: 21},
+		{op: layout.Num, at: 0, arg: -2}, {op: layout.Num, at: 5, arg: 0x12345678}, {op: layout.Get, at: 10, arg: 200},
+		{op: layout.GetX, at: 12, arg: 7, count: 9}, {op: layout.Jump, at: 15, arg: 258}, {op: layout.For, at: 18, arg: 65535}, {op: layout.End, at: 21},
 	}
 	steps, ok := readCode(code)
 	if !ok || len(steps) != len(want) {

@@ -5,6 +5,7 @@ import (
 	"slices"
 
 	"sluice/api"
+	"sluice/layout"
 )
 
 const noLoop = -1
@@ -26,17 +27,17 @@ func (p program) operandsRight() bool {
 
 func (p program) operandRight(s step) bool {
 	switch s.op {
-	case opGet:
+	case layout.Get:
 		return p.alike(s.arg, 1)
-	case opSet:
+	case layout.Set:
 		return p.alike(s.arg, 1) && p.settable(s.arg)
-	case opGetX:
+	case layout.GetX:
 		return p.alike(s.arg, s.count)
-	case opSetX:
+	case layout.SetX:
 		return p.alike(s.arg, s.count) && p.settable(s.arg)
-	case opTimer:
+	case layout.Timer:
 		return p.alike(s.arg, 1) && p.keepsTime(s.arg)
-	case opFor:
+	case layout.For:
 		return s.arg >= 1
 	}
 	return true
@@ -57,16 +58,16 @@ func (p program) alike(first, count int) bool {
 }
 
 func (p program) settable(c int) bool {
-	return p.cells[c].role != roleInput
+	return p.cells[c].role != layout.Input
 }
 
 func (p program) keepsTime(c int) bool {
-	return p.cells[c].role == roleVariable && p.cells[c].kind == kindDint
+	return p.cells[c].role == layout.Variable && p.cells[c].kind == layout.Dint
 }
 
 // endsOnce tells whether END is the last step, and no other one.
 func endsOnce(steps []step) bool {
-	first := slices.IndexFunc(steps, func(s step) bool { return s.op == opEnd })
+	first := slices.IndexFunc(steps, func(s step) bool { return s.op == layout.End })
 	return first >= 0 && first == len(steps)-1
 }
 
@@ -77,13 +78,13 @@ func nestLoops(steps []step) bool {
 	for i := range steps {
 		steps[i].loop = loop
 		switch steps[i].op {
-		case opFor:
+		case layout.For:
 			loop = i
 			open++
 			if open > api.MaxNest {
 				return false
 			}
-		case opNext:
+		case layout.Next:
 			if loop == noLoop {
 				return false
 			}
@@ -97,7 +98,7 @@ func nestLoops(steps []step) bool {
 // aimJumps fills in where each JUMP and UNLESS goes on.
 func aimJumps(steps []step) bool {
 	for i, s := range steps {
-		if s.op != opJump && s.op != opUnless {
+		if s.op != layout.Jump && s.op != layout.Unless {
 			continue
 		}
 		to, found := slices.BinarySearchFunc(steps, s.arg, func(other step, at int) int {

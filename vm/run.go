@@ -1,11 +1,14 @@
 package vm
 
-import "sluice/api"
+import (
+	"sluice/api"
+	"sluice/layout"
+)
 
 // run is one scan's way through the steps. What Load looked at holds here: no
 // step pops from an empty stack, and each NEXT has its FOR open.
 type run struct {
-	rows   [opCount]row
+	rows   [layout.Instructions]row
 	steps  []step
 	cells  []cell
 	delta  int

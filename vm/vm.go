@@ -5,6 +5,7 @@ import (
 	"slices"
 
 	"sluice/api"
+	"sluice/layout"
 )
 
 // Machine runs an image.
@@ -65,7 +66,7 @@ func (m *Machine) runOnce(inputs []int, delta int) (e api.Errno) {
 // none is left over.
 func (m *Machine) takes(inputs []int) bool {
 	for _, c := range m.cells {
-		if c.role != roleInput {
+		if c.role != layout.Input {
 			continue
 		}
 		if len(inputs) == 0 || !c.holds(inputs[0]) {
@@ -78,7 +79,7 @@ func (m *Machine) takes(inputs []int) bool {
 
 func (m *Machine) layInputs(inputs []int) {
 	for i := range m.cells {
-		if m.cells[i].role == roleInput {
+		if m.cells[i].role == layout.Input {
 			m.cells[i].lay(inputs[0])
 			inputs = inputs[1:]
 		}
@@ -89,7 +90,7 @@ func (m *Machine) layInputs(inputs []int) {
 func (m *Machine) Outputs() []int {
 	var outputs []int
 	for _, c := range m.cells {
-		if c.role == roleOutput {
+		if c.role == layout.Output {
 			outputs = append(outputs, int(c.value))
 		}
 	}

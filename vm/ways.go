@@ -4,6 +4,7 @@ import (
 	"container/heap"
 
 	"sluice/api"
+	"sluice/layout"
 )
 
 // tooMany stands for every count of steps above MaxSteps, so that nested
@@ -36,7 +37,7 @@ type arrival struct {
 // steps: when a step is the first of those that wait, all ways to it are known.
 type walk struct {
 	steps    []step
-	rows     [opCount]row
+	rows     [layout.Instructions]row
 	arrivals []arrival
 	waiting  firsts
 	bound    int
@@ -80,16 +81,16 @@ func (w *walk) pass(i int) bool {
 	}
 	done := add(a.done, 1)
 	switch s.op {
-	case opEnd:
+	case layout.End:
 		w.bound = done
 		return a.depth == 0
-	case opJump:
+	case layout.Jump:
 		return w.come(s.to, depth, done)
-	case opUnless:
+	case layout.Unless:
 		return w.come(s.to, depth, done) && w.come(i+1, depth, done)
-	case opFor:
+	case layout.For:
 		return w.come(i+1, depth, 0)
-	case opNext:
+	case layout.Next:
 		return w.leave(i, done)
 	}
 	return w.come(i+1, depth, done)
